@@ -1,0 +1,1 @@
+"""Quicktongue: a language in which every program is quick, and its tools."""
