@@ -12,7 +12,7 @@ def all_faults(tree):
             faults.append(("twice", (at, 1)))
         places = places_in(function, (at,))
         softs = function[3] + function[4]
-        faults.extend(own_name_faults(function, at, places))
+        faults.extend(twice_faults(own_names(function, at, places)))
         for place in places:
             faults.extend(name_faults(place, softs))
             faults.extend(call_faults(place, firsts))
@@ -34,11 +34,6 @@ def own_names(function, at, places):
             names.append((place.path + (2,), place.thing[2]))
             names.append((place.path + (3,), place.thing[3]))
     return names
-
-
-def own_name_faults(function, at, places):
-    """The faults of the own names of a function that occur twice."""
-    return twice_faults(own_names(function, at, places))
 
 
 def twice_faults(named):

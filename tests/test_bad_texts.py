@@ -60,6 +60,10 @@ class BadTextTest(unittest.TestCase):
                       "f(;x,)", "f(;,x)", "f(;,)", "f(,;)", "f(;;)", "f(x;;y)", "f(x y;)", "f(x;y z)", "f(;))", "(f)(x;)",
                       "f(;)(;)", "own(;)", "cut(x;)", "f(x;) y", "f (x)", "f((x;))", "f(x;y", '"0"(;)', "f(;)x", "f(x=y;)")
 
+    def test_other_signs_where_a_bracket_or_a_semicolon_ends_something(self):
+        self.bad_term("(x y", "(x;", "(x =", "(x,", "(x cut", "f(= )", "f() )", "f(x = )", "f(x) )", "f(x = y)", "f(x y)",
+                      "f(=)", "f(;=", "f(; ;", "f(;,", "f(;x =", "f(;x ;", "f(;x y", "f(x;(y;", "f(x;y =")
+
     def test_signs(self):
         self.bad_term("X", "xY", "x-y", "x.y", "_x", "x\t", "\tx", "x\r", "x\xa0", "\xe9", "%", "x!", "0x", "9", "{x}",
                       "x" * 21, "cut_" + "x" * 17, "x'", "[x]", "x*y", "x\x00", "x + 0x", "x + 0_", "x + 0own")

@@ -116,6 +116,10 @@ class SplitTest(unittest.TestCase):
                    "fun marks(x; a)\n  each x as r, l\n    set a = a + 1\n  give a\n"
                    "fun f(a, b; x)\n  give marks(cut marks(b; a); x)")
 
+    def test_a_function_with_the_name_of_a_param(self):
+        self.split((raw(("x",), (), (X,), f="a"), raw(("a", "x"), (("let", "y", ("ask", "a", (X,))),), (A,))),
+                   "fun a(; x)\n  give x\nfun f(x; a)\n  let y = a(; x)\n  give a")
+
     def test_none(self):
         self.none(raw(("a",), (("set", ("a",), ("word", "1")), each("a")), (A,)))
         self.none(raw(("x",), (each("s"),), (X,), ("s",)))
