@@ -1,7 +1,7 @@
 """The polynomials that bound the functions of a program, and the tables of such polynomials."""
 
 from quicktongue.errors import BadProgram, BadTable
-from quicktongue.kinds import alike
+from quicktongue.kinds import is_among
 from quicktongue.levels import is_program
 from quicktongue.polywork import fits_poly, short_exponents
 from quicktongue.rules import pair_by_rules
@@ -28,7 +28,7 @@ def table_holds(program, table, thing):
     """Whether any value is a certificate of a program and a table."""
     require_table(program, table)
     right = all_shorts(program, table) or [("right",)]
-    return any(alike(certificate, thing) for certificate in right)
+    return is_among(thing, right)
 
 
 def require_table(program, table):

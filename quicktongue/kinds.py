@@ -11,6 +11,11 @@ def is_path(thing):
     return isinstance(thing, tuple) and all(is_whole(part) for part in thing)
 
 
+def is_among(thing, values):
+    """Whether any value is one of some values of tuples, strings and integers."""
+    return any(alike(value, thing) for value in values)
+
+
 def alike(one, other):
     """Whether two values of tuples, strings and integers are equal part by part, each of the same kind."""
     # Python's == alone would take True for 1.

@@ -2,7 +2,7 @@
 
 from quicktongue.errors import BadPath, BadRaw, BadTree
 from quicktongue.faults import all_faults
-from quicktongue.kinds import alike, is_path
+from quicktongue.kinds import alike, is_among, is_path
 from quicktongue.places import places_in
 from quicktongue.raws import fits_raw, least_tree
 from quicktongue.trees import is_tree
@@ -21,7 +21,7 @@ def levels_hold(tree, thing):
     if not is_tree(tree):
         raise BadTree(tree)
     right = all_faults(tree) or [("fit",)]
-    return any(alike(certificate, thing) for certificate in right)
+    return is_among(thing, right)
 
 
 def is_program(thing):

@@ -3,7 +3,7 @@
 from quicktongue.errors import BadInputs, BadName, BadProgram
 from quicktongue.levels import is_program
 from quicktongue.runner import Runner
-from quicktongue.trees import is_word
+from quicktongue.trees import are_words
 
 
 def run(program, f, leads, softs):
@@ -36,8 +36,3 @@ def position_to_run(program, f, leads, softs):
     if not are_words(softs, len(function[3])):
         raise BadInputs(softs)
     return positions[0]
-
-
-def are_words(thing, many):
-    """Whether any value is a tuple of so many words."""
-    return isinstance(thing, tuple) and len(thing) == many and all(is_word(part) for part in thing)

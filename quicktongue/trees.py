@@ -15,6 +15,11 @@ def is_word(thing):
     return isinstance(thing, str) and thing.strip("01") == ""
 
 
+def are_words(thing, many):
+    """Whether any value is a tuple of so many words."""
+    return isinstance(thing, tuple) and len(thing) == many and all(is_word(part) for part in thing)
+
+
 def is_name(thing):
     """Whether any value is a name."""
     if not isinstance(thing, str) or not 1 <= len(thing) <= LONGEST_NAME:

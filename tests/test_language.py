@@ -1,8 +1,10 @@
 """The package keeps to the small subset of Python that it is written in, as far as a test can easily see."""
 
 import ast
+import io
 import os
 import re
+import tokenize
 import unittest
 
 FOLDER = os.path.join(os.path.dirname(os.path.dirname(os.path.abspath(__file__))), "quicktongue")
@@ -15,7 +17,10 @@ METHODS = (
     "split splitlines startswith strip update upper values zfill bit_length add discard").split()
 BARRED = (
     "typing typing_extensions enum Enum Generic Protocol ABC namedtuple NamedTuple TypedDict abstractmethod dataclass "
-    "overload contextmanager global async open input register mro elements law").split()
+    "overload contextmanager").split()
+BARRED_NAMES = (
+    "global async open input register mro elements law copyright credits dir eval exec exit gc globals help id license "
+    "locals os quit setattr getattr hasattr vars sys chr map filter next iter").split()
 NODES = (ast.AsyncFunctionDef, ast.Global, ast.Lambda, ast.Starred, ast.AnnAssign, ast.NamedExpr, ast.Set, ast.SetComp,
          ast.JoinedStr, ast.Await, ast.Import, ast.With, ast.Yield, ast.YieldFrom, ast.Match)
 
@@ -88,6 +93,9 @@ class LanguageTest(unittest.TestCase):
             code = re.sub(r'""".*?"""', "", code, flags=re.S)
             for word in BARRED:
                 self.assertIsNone(re.search(r"\b" + word + r"\b", code), (name, word))
+            names = {token.string for token in tokenize.generate_tokens(io.StringIO(text).readline)
+                     if token.type == tokenize.NAME}
+            self.assertEqual(names & set(BARRED_NAMES), set(), name)
         self.assertEqual((defined | attributes) & set(METHODS), set())
         self.assertEqual(defined & attributes, set())
 
