@@ -5,6 +5,7 @@ import importlib
 import inspect
 import unittest
 
+from quicktongue.compiler import plain_unit
 from quicktongue.errors import QuickError
 from quicktongue.texts import read, written
 from tests.support import ODD_VALUES
@@ -14,36 +15,71 @@ PROGRAM = read(TEXT)
 RAW = (("raw", "f", ("a", "x"), (), (("each", "x", "r", "l", ()),), (("name", "a"),)),)
 X = (((1,), 1),)
 TABLE = ((X, (((0,), 2), ((1,), 4))),)
+STEPS = read('fun f(x; a)\n  set a = x\n  give "0" + 1')
+UNIT = plain_unit(PROGRAM)
+SHARING = (((0, 1, 2), (0, 0)),)
+BEGINNING = ((0, 0, ("01", None, None), ("1", ""), ()),)
 
-# For each function of the interface: its module, its parameters, and right arguments.
-FUNCTIONS = {
-    "is_word": ("trees", ("thing",), ("01",)),
-    "is_name": ("trees", ("thing",), ("x",)),
-    "is_term": ("trees", ("thing",), (("name", "x"),)),
-    "is_command": ("trees", ("thing",), (("let", "x", ("name", "x")),)),
-    "is_tree": ("trees", ("thing",), (PROGRAM,)),
-    "written": ("texts", ("tree",), (PROGRAM,)),
-    "read": ("texts", ("text",), (TEXT,)),
-    "judge_levels": ("levels", ("tree",), (PROGRAM,)),
-    "levels_hold": ("levels", ("tree", "thing"), (PROGRAM, ("fit",))),
-    "is_program": ("levels", ("thing",), (PROGRAM,)),
-    "names_at": ("levels", ("tree", "path"), (PROGRAM, (0, 6, 0))),
-    "is_raw": ("levels", ("thing",), (RAW,)),
-    "judge_split": ("levels", ("raw",), (RAW,)),
-    "split_holds": ("levels", ("raw", "thing"), (RAW, ("none",))),
-    "run": ("meaning", ("program", "f", "leads", "softs"), (PROGRAM, "marks", ("01",), ("1",))),
-    "trace": ("meaning", ("program", "f", "leads", "softs"), (PROGRAM, "marks", ("01",), ("1",))),
-    "is_poly": ("polys", ("k", "thing"), (1, X)),
-    "poly_value": ("polys", ("k", "poly", "lengths"), (1, X, (7,))),
-    "poly_sum": ("polys", ("k", "one", "other"), (1, X, X)),
-    "poly_product": ("polys", ("k", "one", "other"), (1, X, X)),
-    "poly_greater": ("polys", ("k", "one", "other"), (1, X, X)),
-    "is_at_most": ("polys", ("k", "one", "other"), (1, X, X)),
-    "put_in": ("polys", ("k", "poly", "m", "parts"), (1, X, 1, (X,))),
-    "bounds": ("bounds", ("program",), (PROGRAM,)),
-    "judge_table": ("bounds", ("program", "table"), (PROGRAM, TABLE)),
-    "table_holds": ("bounds", ("program", "table", "thing"), (PROGRAM, TABLE, ("right",))),
-}
+# For each function of the interface: its module, its name, its parameters, and right arguments.
+FUNCTIONS = (
+    ("trees", "is_word", ("thing",), ("01",)),
+    ("trees", "is_name", ("thing",), ("x",)),
+    ("trees", "is_term", ("thing",), (("name", "x"),)),
+    ("trees", "is_command", ("thing",), (("let", "x", ("name", "x")),)),
+    ("trees", "is_tree", ("thing",), (PROGRAM,)),
+    ("texts", "written", ("tree",), (PROGRAM,)),
+    ("texts", "read", ("text",), (TEXT,)),
+    ("levels", "judge_levels", ("tree",), (PROGRAM,)),
+    ("levels", "levels_hold", ("tree", "thing"), (PROGRAM, ("fit",))),
+    ("levels", "is_program", ("thing",), (PROGRAM,)),
+    ("levels", "names_at", ("tree", "path"), (PROGRAM, (0, 6, 0))),
+    ("levels", "is_raw", ("thing",), (RAW,)),
+    ("levels", "judge_split", ("raw",), (RAW,)),
+    ("levels", "split_holds", ("raw", "thing"), (RAW, ("none",))),
+    ("meaning", "run", ("program", "f", "leads", "softs"), (PROGRAM, "marks", ("01",), ("1",))),
+    ("meaning", "trace", ("program", "f", "leads", "softs"), (PROGRAM, "marks", ("01",), ("1",))),
+    ("polys", "is_poly", ("k", "thing"), (1, X)),
+    ("polys", "poly_value", ("k", "poly", "lengths"), (1, X, (7,))),
+    ("polys", "poly_sum", ("k", "one", "other"), (1, X, X)),
+    ("polys", "poly_product", ("k", "one", "other"), (1, X, X)),
+    ("polys", "poly_greater", ("k", "one", "other"), (1, X, X)),
+    ("polys", "is_at_most", ("k", "one", "other"), (1, X, X)),
+    ("polys", "put_in", ("k", "poly", "m", "parts"), (1, X, 1, (X,))),
+    ("bounds", "bounds", ("program",), (PROGRAM,)),
+    ("bounds", "judge_table", ("program", "table"), (PROGRAM, TABLE)),
+    ("bounds", "table_holds", ("program", "table", "thing"), (PROGRAM, TABLE, ("right",))),
+    ("shelf", "shelf", (), ()),
+    ("shelf", "number_of", ("word",), ("0110",)),
+    ("shelf", "plain_word", ("number",), (10,)),
+    ("simplify", "needed_behind", ("program", "path"), (PROGRAM, (0, 5, 0))),
+    ("simplify", "steps_from", ("program",), (STEPS,)),
+    ("simplify", "is_step", ("program", "thing"), (STEPS, ("known", (0, 6, 0)))),
+    ("simplify", "behind_step", ("program", "step"), (STEPS, ("known", (0, 6, 0)))),
+    ("simplify", "simplifying", ("program",), (STEPS,)),
+    ("simplify", "simplified", ("program",), (STEPS,)),
+    ("code", "is_unit", ("thing",), (UNIT,)),
+    ("code", "first_fault", ("unit",), (UNIT,)),
+    ("code", "is_taken", ("thing",), (UNIT,)),
+    ("code", "set_ahead", ("unit", "f", "row"), (UNIT, 0, 1)),
+    ("codebounds", "code_bounds", ("unit",), (UNIT,)),
+    ("machine", "beginning", ("unit", "f", "leads", "softs"), (UNIT, 0, ("01",), ("1",))),
+    ("machine", "is_standing", ("unit", "thing"), (UNIT, BEGINNING)),
+    ("machine", "step", ("unit", "standing"), (UNIT, BEGINNING)),
+    ("machine", "rest_of_run", ("unit", "standing"), (UNIT, BEGINNING)),
+    ("machine", "run", ("unit", "f", "leads", "softs"), (UNIT, 0, ("01",), ("1",))),
+    ("compiler", "plain_unit", ("program",), (PROGRAM,)),
+    ("compiler", "homes", ("program",), (PROGRAM,)),
+    ("registers", "needed_behind_row", ("unit", "f", "row"), (UNIT, 0, 1)),
+    ("registers", "judge_sharing", ("unit", "sharing"), (UNIT, SHARING)),
+    ("registers", "sharing_holds", ("unit", "sharing", "thing"), (UNIT, SHARING, ("apart",))),
+    ("registers", "shared", ("unit", "sharing"), (UNIT, SHARING)),
+    ("registers", "sharing_of", ("unit",), (UNIT,)),
+)
+
+
+def function_of(module, name):
+    """A function of the interface."""
+    return getattr(importlib.import_module("quicktongue." + module), name)
 
 
 def outcome(function, arguments):
@@ -61,22 +97,25 @@ def same(one, other):
 
 class ConventionsTest(unittest.TestCase):
     def each_function(self):
-        for name, (file, parameters, arguments) in FUNCTIONS.items():
-            yield name, getattr(importlib.import_module("quicktongue." + file), name), parameters, arguments
+        for module, name, parameters, arguments in FUNCTIONS:
+            yield name, function_of(module, name), parameters, arguments
 
     def test_functions_are_defined_where_they_are_listed(self):
-        for name, function, parameters, _ in self.each_function():
-            self.assertEqual(function.__module__, "quicktongue." + FUNCTIONS[name][0])
+        for module, name, parameters, _ in FUNCTIONS:
+            function = function_of(module, name)
+            self.assertEqual(function.__module__, "quicktongue." + module)
+            self.assertEqual(function.__name__, name)
             self.assertEqual(tuple(inspect.signature(function).parameters), parameters)
 
     def test_by_position_and_by_name(self):
         for name, function, parameters, arguments in self.each_function():
             by_position = function(*arguments)
             self.assertTrue(same(by_position, function(**dict(zip(parameters, arguments)))), name)
-            mixed = dict(list(zip(parameters, arguments))[1:])
-            self.assertTrue(same(by_position, function(arguments[0], **mixed)), name)
             backwards = dict(reversed(list(zip(parameters, arguments))))
             self.assertTrue(same(by_position, function(**backwards)), name)
+            for many in range(len(parameters)):
+                mixed = dict(list(zip(parameters, arguments))[many:])
+                self.assertTrue(same(by_position, function(*arguments[:many], **mixed)), name)
 
     def test_results_consist_of_what_they_may(self):
         for name, function, _, arguments in self.each_function():
@@ -105,21 +144,46 @@ class ConventionsTest(unittest.TestCase):
                     self.assertTrue(same(passed, before))
 
     def test_the_first_wrong_argument_is_named(self):
-        bad = ["bad"]
-        for name, error in (
-                ("written", "BadTree"), ("judge_levels", "BadTree"), ("levels_hold", "BadTree"), ("names_at", "BadTree"),
-                ("judge_split", "BadRaw"), ("split_holds", "BadRaw"), ("run", "BadProgram"), ("trace", "BadProgram"),
-                ("bounds", "BadProgram"), ("judge_table", "BadProgram"), ("table_holds", "BadProgram")):
-            _, parameters, arguments = FUNCTIONS[name]
-            function = getattr(importlib.import_module("quicktongue." + FUNCTIONS[name][0]), name)
-            others = [[] for _ in parameters[1:]]
-            self.assertEqual(outcome(function, (bad, *others)), (error, {"thing": bad}))
-            self.assertEqual(outcome(function, (bad, *arguments[1:])), (error, {"thing": bad}))
+        errors = {"tree": "BadTree", "raw": "BadRaw", "program": "BadProgram", "word": "BadWord", "unit": "BadUnit"}
+        checked = 0
+        for name, function, parameters, arguments in self.each_function():
+            if parameters and parameters[0] in errors:
+                bad = ["bad"]
+                told = (errors[parameters[0]], {"thing": bad})
+                others = [[] for _ in parameters[1:]]
+                self.assertEqual(outcome(function, (bad, *others)), told, name)
+                self.assertEqual(outcome(function, (bad, *arguments[1:])), told, name)
+                checked += 1
+        self.assertEqual(checked, 33)
+
+    def test_the_order_of_errors(self):
+        bad, worse = ["bad"], ["worse"]
+        for module, name, arguments, error, at in (
+                ("levels", "names_at", (PROGRAM, bad), "BadPath", 1), ("meaning", "run", (PROGRAM, bad, worse, None), "BadName", 1),
+                ("meaning", "run", (PROGRAM, "marks", bad, worse), "BadInputs", 2),
+                ("meaning", "trace", (PROGRAM, "marks", ("0",), bad), "BadInputs", 3),
+                ("bounds", "table_holds", (PROGRAM, bad, worse), "BadTable", 1), ("simplify", "needed_behind", (PROGRAM, bad), "BadPath", 1),
+                ("simplify", "behind_step", (PROGRAM, bad), "BadStep", 1), ("code", "set_ahead", (UNIT, bad, worse), "BadNumber", 1),
+                ("code", "set_ahead", (UNIT, 0, bad), "BadNumber", 2), ("machine", "beginning", (UNIT, bad, worse, None), "BadNumber", 1),
+                ("machine", "beginning", (UNIT, 0, bad, worse), "BadInputs", 2), ("machine", "run", (UNIT, 0, ("0",), bad), "BadInputs", 3),
+                ("machine", "run", (UNIT, bad, worse, None), "BadNumber", 1), ("machine", "run", (UNIT, 0, bad, worse), "BadInputs", 2),
+                ("machine", "step", (UNIT, bad), "BadStanding", 1), ("machine", "rest_of_run", (UNIT, bad), "BadStanding", 1),
+                ("registers", "needed_behind_row", (UNIT, bad, worse), "BadNumber", 1),
+                ("registers", "needed_behind_row", (UNIT, 0, bad), "BadNumber", 2), ("registers", "judge_sharing", (UNIT, bad), "BadSharing", 1),
+                ("registers", "sharing_holds", (UNIT, bad, worse), "BadSharing", 1), ("registers", "shared", (UNIT, bad), "BadSharing", 1)):
+            self.assertEqual(outcome(function_of(module, name), arguments), (error, {"thing": arguments[at]}), name)
 
     def test_what_the_package_returns_can_be_passed_on(self):
-        modules = {name: function for name, function, _, _ in self.each_function()}
-        self.assertEqual(read(written(modules["judge_split"](RAW)[1])), modules["judge_split"](RAW)[1])
-        self.assertEqual(modules["judge_table"](PROGRAM, modules["bounds"](PROGRAM)), ("right",))
-        self.assertIs(modules["levels_hold"](PROGRAM, modules["judge_levels"](PROGRAM)), True)
-        outcomes, _ = modules["run"](PROGRAM, "marks", ("01",), ("1",))
-        self.assertEqual(modules["run"](PROGRAM, "marks", outcomes, outcomes)[0], ("111111",))
+        self.assertEqual(read(written(function_of("levels", "judge_split")(RAW)[1])), function_of("levels", "judge_split")(RAW)[1])
+        self.assertEqual(function_of("bounds", "judge_table")(PROGRAM, function_of("bounds", "bounds")(PROGRAM)), ("right",))
+        self.assertIs(function_of("levels", "levels_hold")(PROGRAM, function_of("levels", "judge_levels")(PROGRAM)), True)
+        run = function_of("meaning", "run")
+        outcomes, _ = run(PROGRAM, "marks", ("01",), ("1",))
+        self.assertEqual(run(PROGRAM, "marks", outcomes, outcomes)[0], ("111111",))
+        steps = function_of("simplify", "steps_from")(STEPS)
+        self.assertIs(function_of("simplify", "is_step")(STEPS, steps[0]), True)
+        shared, sharing_of = function_of("registers", "shared"), function_of("registers", "sharing_of")
+        self.assertIs(function_of("code", "is_taken")(shared(UNIT, sharing_of(UNIT))), True)
+        self.assertEqual(function_of("machine", "beginning")(UNIT, 0, ("01",), ("1",)), BEGINNING)
+        standing, _ = function_of("machine", "step")(UNIT, BEGINNING)
+        self.assertIs(function_of("machine", "is_standing")(UNIT, standing), True)

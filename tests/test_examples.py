@@ -52,6 +52,61 @@ BOUNDS = r'''
 [('right',), True]
 '''
 
+SHELF = r'''
+>>> from quicktongue.meaning import run
+>>> from quicktongue.shelf import number_of, plain_word, shelf
+>>> [run(shelf(), 'turned', ('0011',), ())[0], run(shelf(), 'joined', ('01',), ('11',))[0], run(shelf(), 'sorted', ('1010',), ())[0], run(shelf(), 'next', ('0111',), ())[0], run(shelf(), 'plus', ('11', '101'), ())[0], run(shelf(), 'less', ('10', '010'), ())[0], run(shelf(), 'product', ('11', '101'), ())[0], number_of('0110'), plain_word(0), plain_word(10)]
+[('1100',), ('1101',), ('0011',), ('1000',), ('1000',), ('',), ('1111',), 6, '', '1010']
+'''
+
+SIMPLIFY = r'''
+>>> from quicktongue.simplify import behind_step, is_step, needed_behind, simplified, simplifying, steps_from
+>>> from quicktongue.texts import read, written
+>>> ONE = read('fun f(x; y)\n  let z = x\n  set y = cut (y + 1)\n  each z as r, a\n  give y')
+>>> [steps_from(ONE), needed_behind(ONE, (0, 5, 0)), is_step(ONE, ('dead', (0, 5, 0)))]
+[(('dead', (0, 5, 2)), ('same', (0, 5, 1, 2))), ('y',), False]
+>>> [simplifying(ONE), written(simplified(ONE))]
+[(('dead', (0, 5, 2)), ('dead', (0, 5, 0)), ('same', (0, 5, 0, 2))), 'fun f(x; y)\n  set y = y\n  give y']
+>>> TWO = read('fun g(; y) own s\n  set s = "01"\n  when y + 0\n    none\n      set y = s\n    zero\n      set y = cut "10"\n  give y')
+>>> [steps_from(TWO), simplifying(TWO), written(simplified(TWO))]
+[(('choice', (0, 5, 1)), ('known', (0, 5, 1, 3, 0, 2))), (('choice', (0, 5, 1)), ('dead', (0, 5, 0)), ('known', (0, 5, 0, 2))), 'fun g(; y) own s\n  set y = "1"\n  give y']
+'''
+
+CODE = r'''
+>>> from quicktongue.code import first_fault, is_taken, is_unit, set_ahead
+>>> from quicktongue.codebounds import code_bounds
+>>> rows = (("each", ("l", 0), ("l", 1), ("l", 2)), ("put", ("s", 0), ("s", 0), "1"), ("end",), ("give", (("s", 0),)))
+>>> unit = ((), ((1, 1, 3, 1, rows),), (("add", 0),))
+>>> [is_unit(unit), first_fault(unit), set_ahead(unit, 0, 1), set_ahead(unit, 0, 3), code_bounds(unit)]
+[True, None, (('l', 0), ('l', 1), ('l', 2)), (('l', 0),), (((((1,), 1),), (((0,), 2), ((1,), 2))),)]
+>>> [first_fault(((), ((1, 1, 3, 1, rows[:3]),), ())), first_fault(((), ((1, 1, 2, 1, rows),), ())), first_fault(((), ((0, 1, 1, 1, (("move", ("l", 0), ("s", 0)), ("give", (("l", 0),)))),), ())), is_taken(((), ((0, 1, 1, 1, (("give", (("l", 0),)),)),), ()))]
+[(0, 3, 'shape'), (0, 0, 'register'), (0, 0, 'level'), False]
+'''
+
+MACHINE = r'''
+>>> from quicktongue.machine import beginning, is_standing, rest_of_run, run, step
+>>> rows = (("each", ("l", 0), ("l", 1), ("l", 2)), ("put", ("s", 0), ("s", 0), "1"), ("end",), ("give", (("s", 0),)))
+>>> unit = ((), ((1, 1, 3, 1, rows),), (("add", 0),))
+>>> [run(unit, 0, ("011",), ("0",)), beginning(unit, 0, ("011",), ("0",)), step(unit, ((0, 0, ("011", None, None), ("0",), ()),))]
+[(('0111',), 8), ((0, 0, ('011', None, None), ('0',), ()),), (((0, 1, ('011', '01', '1'), ('0',), ('01',)),), 2)]
+>>> [step(unit, ((0, 1, ("011", "", "0"), ("011",), ("",)),)), rest_of_run(unit, ((0, 1, ("011", "", "0"), ("011",), ("",)),)), is_standing(unit, ((0, 2, ("011", "", "0"), ("0",), ("",)),)), step(unit, ("ended", ("0",)))]
+[(((0, 3, ('011', None, None), ('0111',), ()),), 1), (('0111',), 2), False, None]
+'''
+
+REGISTERS = r'''
+>>> from quicktongue.compiler import homes, plain_unit
+>>> from quicktongue.registers import judge_sharing, needed_behind_row, shared, sharing_holds
+>>> from quicktongue.texts import read
+>>> ADD = read('fun add(x; y)\n  each x as r, a\n    set y = y + 1\n  give y')
+>>> UNIT = plain_unit(ADD)
+>>> UNIT
+((), ((1, 1, 3, 2, (('each', ('l', 0), ('l', 1), ('l', 2)), ('put', ('s', 1), ('s', 0), '1'), ('move', ('s', 0), ('s', 1)), ('end',), ('give', (('s', 0),)))),), (('add', 0),))
+>>> [homes(ADD), needed_behind_row(UNIT, 0, 1), judge_sharing(UNIT, (((0, 1, 2), (0, 0)),)), sharing_holds(UNIT, (((0, 1, 1), (0, 0)),), ('clash', 0, 0, ('l', 1), ('l', 2)))]
+[(((0, 5, 0), (0, 5, 0, 4, 0), (0, 5, 0, 4, 0), (0, 5, 0), (0, 6)),), (('s', 1),), ('apart',), True]
+>>> shared(UNIT, (((0, 1, 2), (0, 0)),))[1]
+((1, 1, 3, 1, (('each', ('l', 0), ('l', 1), ('l', 2)), ('put', ('s', 0), ('s', 0), '1'), ('move', ('s', 0), ('s', 0)), ('end',), ('give', (('s', 0),)))),)
+'''
+
 
 class ExamplesTest(unittest.TestCase):
     def check(self, examples):
@@ -89,3 +144,18 @@ class ExamplesTest(unittest.TestCase):
 
     def test_bounds(self):
         self.assertEqual(self.check(BOUNDS), 3)
+
+    def test_shelf(self):
+        self.assertEqual(self.check(SHELF), 1)
+
+    def test_simplify(self):
+        self.assertEqual(self.check(SIMPLIFY), 3)
+
+    def test_code(self):
+        self.assertEqual(self.check(CODE), 2)
+
+    def test_machine(self):
+        self.assertEqual(self.check(MACHINE), 2)
+
+    def test_registers(self):
+        self.assertEqual(self.check(REGISTERS), 3)
