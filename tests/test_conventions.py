@@ -19,6 +19,9 @@ STEPS = read('fun f(x; a)\n  set a = x\n  give "0" + 1')
 UNIT = plain_unit(PROGRAM)
 SHARING = (((0, 1, 2), (0, 0)),)
 BEGINNING = ((0, 0, ("01", None, None), ("1", ""), ()),)
+BYTES = (81, 84, 0, 1, 0, 1, 0, 1, 11, 1, 128, 1, 1, 102, 0)
+UNIT_TEXT = "code 0 1 0 1\ngive (s0)\nshow f 0"
+USER = ((("marks", 1, 1, 1),), ((1, 0, 1, 1, (("call", 0, (("l", 0),), (("l", 0),), (("s", 0),)), ("give", (("s", 0),)))),), ())
 
 # For each function of the interface: its module, its name, its parameters, and right arguments.
 FUNCTIONS = (
@@ -74,6 +77,14 @@ FUNCTIONS = (
     ("registers", "sharing_holds", ("unit", "sharing", "thing"), (UNIT, SHARING, ("apart",))),
     ("registers", "shared", ("unit", "sharing"), (UNIT, SHARING)),
     ("registers", "sharing_of", ("unit",), (UNIT,)),
+    ("bytework", "bytes_of", ("unit",), (UNIT,)),
+    ("bytework", "unit_of", ("code",), (BYTES,)),
+    ("loader", "load", ("code",), (BYTES,)),
+    ("loader", "load_bounds", ("code",), (BYTES,)),
+    ("assembler", "text_of_unit", ("unit",), (UNIT,)),
+    ("assembler", "unit_of_text", ("text",), (UNIT_TEXT,)),
+    ("linker", "judge_link", ("units",), ((UNIT, USER),)),
+    ("linker", "link_holds", ("units", "thing"), ((USER,), ("lacks", 0, 0))),
 )
 
 
@@ -144,7 +155,8 @@ class ConventionsTest(unittest.TestCase):
                     self.assertTrue(same(passed, before))
 
     def test_the_first_wrong_argument_is_named(self):
-        errors = {"tree": "BadTree", "raw": "BadRaw", "program": "BadProgram", "word": "BadWord", "unit": "BadUnit"}
+        errors = {"tree": "BadTree", "raw": "BadRaw", "program": "BadProgram", "word": "BadWord", "unit": "BadUnit",
+                  "units": "BadUnits"}
         checked = 0
         for name, function, parameters, arguments in self.each_function():
             if parameters and parameters[0] in errors:
@@ -154,7 +166,7 @@ class ConventionsTest(unittest.TestCase):
                 self.assertEqual(outcome(function, (bad, *others)), told, name)
                 self.assertEqual(outcome(function, (bad, *arguments[1:])), told, name)
                 checked += 1
-        self.assertEqual(checked, 33)
+        self.assertEqual(checked, 37)
 
     def test_the_order_of_errors(self):
         bad, worse = ["bad"], ["worse"]
@@ -187,3 +199,8 @@ class ConventionsTest(unittest.TestCase):
         self.assertEqual(function_of("machine", "beginning")(UNIT, 0, ("01",), ("1",)), BEGINNING)
         standing, _ = function_of("machine", "step")(UNIT, BEGINNING)
         self.assertIs(function_of("machine", "is_standing")(UNIT, standing), True)
+        bytes_of, load = function_of("bytework", "bytes_of"), function_of("loader", "load")
+        self.assertEqual(load(bytes_of(UNIT)), UNIT)
+        self.assertEqual(function_of("assembler", "unit_of_text")(function_of("assembler", "text_of_unit")(UNIT)), UNIT)
+        linked = function_of("linker", "judge_link")((load(bytes_of(UNIT)), USER))[1]
+        self.assertIs(function_of("code", "is_taken")(linked), True)

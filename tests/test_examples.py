@@ -107,6 +107,28 @@ REGISTERS = r'''
 ((1, 1, 3, 1, (('each', ('l', 0), ('l', 1), ('l', 2)), ('put', ('s', 0), ('s', 0), '1'), ('move', ('s', 0), ('s', 0)), ('end',), ('give', (('s', 0),)))),)
 '''
 
+BYTES = r'''
+>>> from quicktongue.bytework import bytes_of, unit_of
+>>> from quicktongue.loader import load, load_bounds
+>>> rows = (("each", ("l", 0), ("l", 1), ("l", 2)), ("put", ("s", 0), ("s", 0), "1"), ("end",), ("give", (("s", 0),)))
+>>> unit = ((), ((1, 1, 3, 1, rows),), (("add", 0),))
+>>> [bytes_of(unit), unit_of(bytes_of(unit)) == unit, load_bounds(bytes_of(unit))]
+[(81, 84, 0, 1, 1, 1, 3, 1, 10, 0, 1, 2, 3, 128, 128, 1, 9, 11, 1, 128, 1, 3, 97, 100, 100, 0), True, (((((1,), 1),), (((0,), 2), ((1,), 2))),)]
+>>> unit_of((81, 84, 0, 0, 1))
+raises BadBytes(at=4)
+>>> unit_of((81, 84, 0, 1, 1, 1, 3, 1, 12))
+raises BadBytes(at=8)
+>>> load((81, 84, 0, 1, 0, 1, 1, 1, 11, 1, 0, 0))
+raises BadUnit(thing=((), ((0, 1, 1, 1, (('give', (('l', 0),)),)),), ()))
+>>> from quicktongue.assembler import text_of_unit, unit_of_text
+>>> from quicktongue.linker import judge_link, link_holds
+>>> other = ((("add", 1, 1, 1),), ((1, 0, 1, 1, (("call", 0, (("l", 0),), (("s", 0),), (("s", 0),)), ("give", (("s", 0),)))),), (("more", 0),))
+>>> [text_of_unit(other), judge_link((other,)), judge_link((unit, other))[1][1][1], link_holds((unit, unit), ("twice", 1, "add"))]
+['needs add 1 1 1\ncode 1 0 1 1\ncall 0 (l0) (s0) (s0)\ngive (s0)\nshow more 0', ('lacks', 0, 0), (1, 0, 1, 1, (('call', 0, (('l', 0),), (('s', 0),), (('s', 0),)), ('give', (('s', 0),)))), True]
+>>> unit_of_text('code 0 0 0 0\ngive (s0')
+raises BadText(at=2)
+'''
+
 
 class ExamplesTest(unittest.TestCase):
     def check(self, examples):
@@ -159,3 +181,6 @@ class ExamplesTest(unittest.TestCase):
 
     def test_registers(self):
         self.assertEqual(self.check(REGISTERS), 3)
+
+    def test_bytes(self):
+        self.assertEqual(self.check(BYTES), 6)
