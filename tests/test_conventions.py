@@ -20,6 +20,9 @@ UNIT = plain_unit(PROGRAM)
 SHARING = (((0, 1, 2), (0, 0)),)
 BEGINNING = ((0, 0, ("01", None, None), ("1", ""), ()),)
 BYTES = (81, 84, 0, 1, 0, 1, 0, 1, 11, 1, 128, 1, 1, 102, 0)
+MACHINE = (((1, "stay"), (0, "cut"), (1, "put1")),)
+RUNNER = read("fun f(p, x;)\n  give cut x")
+OTHER = read("fun g(x;)\n  give cut x")
 UNIT_TEXT = "code 0 1 0 1\ngive (s0)\nshow f 0"
 USER = ((("marks", 1, 1, 1),), ((1, 0, 1, 1, (("call", 0, (("l", 0),), (("l", 0),), (("s", 0),)), ("give", (("s", 0),)))),), ())
 
@@ -85,7 +88,22 @@ FUNCTIONS = (
     ("assembler", "unit_of_text", ("text",), (UNIT_TEXT,)),
     ("linker", "judge_link", ("units",), ((UNIT, USER),)),
     ("linker", "link_holds", ("units", "thing"), ((USER,), ("lacks", 0, 0))),
+    ("piles", "is_machine", ("thing",), (MACHINE,)),
+    ("piles", "pile_step", ("machine", "standing"), (MACHINE, (0, "1", ""))),
+    ("piles", "standing_after", ("machine", "word", "many"), (MACHINE, "1000", 5)),
+    ("piles", "outcome", ("machine", "c", "d", "word"), (MACHINE, 1, 1, "1000")),
+    ("made", "made", ("machine", "c", "d"), (MACHINE, 1, 1)),
+    ("made", "clock_program", ("c", "d"), (2, 3)),
+    ("outwit", "word_of_text", ("text",), ("a0",)),
+    ("outwit", "text_of_word", ("word",), ("11000010110000",)),
+    ("outwit", "outwit", ("program", "f"), (RUNNER, "f")),
+    ("outwit", "does_err", ("program", "f", "other", "word"), (RUNNER, "f", OTHER, "0101")),
+    ("chain", "made_bytes", ("program",), (PROGRAM,)),
+    ("chain", "chained", ("program", "f", "leads", "softs"), (PROGRAM, "marks", ("01",), ("1",))),
+    ("chain", "chain_bounds", ("program",), (PROGRAM,)),
 )
+# Numbers that count steps or letters; a call with a far larger one would not end.
+COUNTS = ("c", "d", "many")
 
 
 def function_of(module, name):
@@ -147,6 +165,8 @@ class ConventionsTest(unittest.TestCase):
                 if parameters[at] in ("k", "m"):
                     continue
                 for value in (arguments[at],) + ODD_VALUES:
+                    if parameters[at] in COUNTS and type(value) is int and value > 100:
+                        continue
                     passed = arguments[:at] + (value,) + arguments[at + 1:]
                     before = copy.deepcopy(passed)
                     first = outcome(function, passed)
@@ -156,7 +176,7 @@ class ConventionsTest(unittest.TestCase):
 
     def test_the_first_wrong_argument_is_named(self):
         errors = {"tree": "BadTree", "raw": "BadRaw", "program": "BadProgram", "word": "BadWord", "unit": "BadUnit",
-                  "units": "BadUnits"}
+                  "units": "BadUnits", "machine": "BadMachine"}
         checked = 0
         for name, function, parameters, arguments in self.each_function():
             if parameters and parameters[0] in errors:
@@ -166,7 +186,7 @@ class ConventionsTest(unittest.TestCase):
                 self.assertEqual(outcome(function, (bad, *others)), told, name)
                 self.assertEqual(outcome(function, (bad, *arguments[1:])), told, name)
                 checked += 1
-        self.assertEqual(checked, 37)
+        self.assertEqual(checked, 47)
 
     def test_the_order_of_errors(self):
         bad, worse = ["bad"], ["worse"]
@@ -182,7 +202,17 @@ class ConventionsTest(unittest.TestCase):
                 ("machine", "step", (UNIT, bad), "BadStanding", 1), ("machine", "rest_of_run", (UNIT, bad), "BadStanding", 1),
                 ("registers", "needed_behind_row", (UNIT, bad, worse), "BadNumber", 1),
                 ("registers", "needed_behind_row", (UNIT, 0, bad), "BadNumber", 2), ("registers", "judge_sharing", (UNIT, bad), "BadSharing", 1),
-                ("registers", "sharing_holds", (UNIT, bad, worse), "BadSharing", 1), ("registers", "shared", (UNIT, bad), "BadSharing", 1)):
+                ("registers", "sharing_holds", (UNIT, bad, worse), "BadSharing", 1), ("registers", "shared", (UNIT, bad), "BadSharing", 1),
+                ("linker", "link_holds", (bad, worse), "BadUnits", 0), ("piles", "pile_step", (MACHINE, bad), "BadStanding", 1),
+                ("piles", "standing_after", (MACHINE, bad, worse), "BadWord", 1), ("piles", "standing_after", (MACHINE, "0", bad), "BadNumber", 2),
+                ("piles", "outcome", (MACHINE, bad, worse, None), "BadNumber", 1), ("piles", "outcome", (MACHINE, 1, bad, worse), "BadNumber", 2),
+                ("piles", "outcome", (MACHINE, 1, 1, bad), "BadWord", 3), ("made", "made", (MACHINE, bad, worse), "BadNumber", 1),
+                ("made", "made", (MACHINE, 1, bad), "BadNumber", 2), ("made", "clock_program", (bad, worse), "BadNumber", 0),
+                ("made", "clock_program", (1, bad), "BadNumber", 1), ("outwit", "outwit", (RUNNER, bad), "BadName", 1),
+                ("outwit", "does_err", (RUNNER, bad, worse, None), "BadName", 1), ("outwit", "does_err", (RUNNER, "f", bad, worse), "BadProgram", 2),
+                ("outwit", "does_err", (RUNNER, "f", OTHER, bad), "BadWord", 3), ("chain", "chained", (PROGRAM, bad, worse, None), "BadName", 1),
+                ("chain", "chained", (PROGRAM, "marks", bad, worse), "BadInputs", 2),
+                ("chain", "chained", (PROGRAM, "marks", ("0",), bad), "BadInputs", 3)):
             self.assertEqual(outcome(function_of(module, name), arguments), (error, {"thing": arguments[at]}), name)
 
     def test_what_the_package_returns_can_be_passed_on(self):
@@ -204,3 +234,6 @@ class ConventionsTest(unittest.TestCase):
         self.assertEqual(function_of("assembler", "unit_of_text")(function_of("assembler", "text_of_unit")(UNIT)), UNIT)
         linked = function_of("linker", "judge_link")((load(bytes_of(UNIT)), USER))[1]
         self.assertIs(function_of("code", "is_taken")(linked), True)
+        self.assertEqual(load(function_of("chain", "made_bytes")(function_of("made", "made")(MACHINE, 2, 3)))[0], ())
+        does_err, outwit = function_of("outwit", "does_err"), function_of("outwit", "outwit")
+        self.assertIs(does_err(RUNNER, "f", *outwit(RUNNER, "f")), True)

@@ -129,6 +129,32 @@ raises BadUnit(thing=((), ((0, 1, 1, 1, (('give', (('l', 0),)),)),), ()))
 raises BadText(at=2)
 '''
 
+MADE = r'''
+>>> from quicktongue.made import clock_program, made
+>>> from quicktongue.meaning import run
+>>> from quicktongue.piles import is_machine, outcome, pile_step, standing_after
+>>> FLIP = (((1, 'stay'), (0, 'over'), (0, 'over')), ((2, 'stay'), (2, 'stay'), (2, 'stay')))
+>>> [is_machine(FLIP), pile_step(FLIP, (0, '10', '')), standing_after(FLIP, '10', 3), outcome(FLIP, 1, 0, '101'), outcome(FLIP, 1, 0, '')]
+[True, (0, '1', '0'), (1, '', '01'), '', '']
+>>> PROGRAM = made((((1, 'stay'), (0, 'cut'), (1, 'put1')),), 1, 1)
+>>> [run(PROGRAM, PROGRAM[-1][1], ('1000',), ())[0], outcome((((1, 'stay'), (0, 'cut'), (1, 'put1')),), 1, 1, '1000'), run(clock_program(2, 3), clock_program(2, 3)[-1][1], ('01',), ())[0]]
+[('11',), '11', ('1111111',)]
+'''
+
+CHAIN = r'''
+>>> from quicktongue.outwit import does_err, outwit, text_of_word, word_of_text
+>>> from quicktongue.texts import read
+>>> FIRST = read('fun f(p, x;)\n  give cut x')
+>>> [word_of_text('a0'), text_of_word('11000010110000'), text_of_word('1')]
+['11000010110000', 'a0', None]
+>>> OTHER, WORD = outwit(FIRST, 'f')
+>>> [len(OTHER), does_err(FIRST, 'f', OTHER, WORD), does_err(FIRST, 'f', read('fun g(x;)\n  give cut x'), '0101')]
+[2, True, False]
+>>> from quicktongue.chain import chained
+>>> chained(read('fun marks(x; a)\n  each x as r, l\n    set a = a + 1\n  give a'), 'marks', ('010',), ('0',))[0]
+('0111',)
+'''
+
 
 class ExamplesTest(unittest.TestCase):
     def check(self, examples):
@@ -184,3 +210,9 @@ class ExamplesTest(unittest.TestCase):
 
     def test_bytes(self):
         self.assertEqual(self.check(BYTES), 6)
+
+    def test_made(self):
+        self.assertEqual(self.check(MADE), 2)
+
+    def test_chain(self):
+        self.assertEqual(self.check(CHAIN), 3)
