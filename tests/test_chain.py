@@ -116,9 +116,9 @@ class ChainTest(unittest.TestCase):
         for many, f, leads, softs in ((1, "turned", ("0110111",), ()), (2, "joined", ("0110",), ("111",)), (4, "times", ("0110", "111"), ()),
                                       (5, "sorted", ("0110111",), ()), (8, "next", ("0111",), ())):
             part = program[:many]
-            if f in [function[1] for function in part]:
-                self.made(part)
-                self.runs(part, f, leads, softs)
+            self.assertEqual(part[-1][1], f)
+            self.made(part)
+            self.runs(part, f, leads, softs)
 
     def test_programs(self):
         for program in ODD_VALUES + ((MARKS[0], MARKS[0]), list(MARKS), (("fun", "f", (), ("a",), (), (("let", "b", ("name", "a")),), (("name", "a"),)),)):
